@@ -1,0 +1,94 @@
+"""Tests of those rules of the language subset that a few lines can check."""
+
+import ast
+import builtins
+import pathlib
+import unittest
+
+PACKAGE = pathlib.Path(__file__).resolve().parent.parent / "viewstrike"
+FILES = sorted(PACKAGE.rglob("*.py"))
+BUILTINS = (
+    "len range enumerate zip min max sum abs sorted reversed int str bool list tuple dict set isinstance ord repr any "
+    "all divmod type iter next map Exception ValueError TypeError KeyError IndexError LookupError ZeroDivisionError "
+    "ArithmeticError OverflowError RuntimeError NotImplementedError StopIteration NotImplemented"
+).split()
+LIBRARY = ("heapq", "math", "itertools", "collections")
+STATEMENTS = (ast.FunctionDef, ast.ClassDef, ast.ImportFrom, ast.Assign)
+
+
+def tree_of(path):
+    return ast.parse(path.read_text("utf-8"))
+
+
+def nodes_of(path, kinds):
+    return [node for node in ast.walk(tree_of(path)) if isinstance(node, kinds)]
+
+
+def is_docstring(node):
+    return isinstance(node, ast.Expr) and isinstance(node.value, ast.Constant) and isinstance(node.value.value, str)
+
+
+class LanguageTest(unittest.TestCase):
+    def test_the_package_has_only_python_files(self):
+        others = [path for path in PACKAGE.rglob("*") if path not in FILES and "__pycache__" not in str(path)]
+        self.assertEqual(others, [])
+        self.assertIn(PACKAGE / "__init__.py", FILES)
+
+    def test_sizes(self):
+        for path in FILES:
+            lines = path.read_text("utf-8").split("\n")
+            self.assertLessEqual(len(lines), 399, path)
+            self.assertLessEqual(max(len(line) for line in lines), 120, path)
+            for function in nodes_of(path, ast.FunctionDef):
+                self.assertLessEqual(function.end_lineno - function.lineno + 1, 40, (path, function.name))
+
+    def test_characters(self):
+        for path in FILES:
+            for character in path.read_text("utf-8"):
+                self.assertTrue(" " <= character <= "~" or character == "\n", path)
+
+    def test_module_level(self):
+        for path in FILES:
+            for node in tree_of(path).body:
+                self.assertTrue(isinstance(node, STATEMENTS) or is_docstring(node), (path, node.lineno))
+
+    def test_imports(self):
+        for path in FILES:
+            for node in nodes_of(path, (ast.Import, ast.ImportFrom)):
+                self.assertIsInstance(node, ast.ImportFrom, path)
+                self.assertEqual(node.level, 0, path)
+                self.assertIn(node.module.split(".")[0], ("viewstrike",) + LIBRARY, path)
+
+    def test_no_name_is_imported_from_where_it_is_not_defined(self):
+        for path in FILES:
+            for node in nodes_of(path, ast.ImportFrom):
+                if node.module.startswith("viewstrike."):
+                    source = PACKAGE.parent / (node.module.replace(".", "/") + ".py")
+                    defined = [told.name for told in tree_of(source).body if hasattr(told, "name")]
+                    defined += [told.targets[0].id for told in tree_of(source).body if isinstance(told, ast.Assign)]
+                    for alias in node.names:
+                        self.assertIn(alias.name, defined, path)
+
+    def test_builtins(self):
+        for path in FILES:
+            for node in nodes_of(path, ast.Name):
+                # An interactive Python, also the one that runs the examples, keeps its last result as _.
+                if hasattr(builtins, node.id) and node.id != "_":
+                    self.assertIsInstance(node.ctx, ast.Load, (path, node.lineno))
+                    self.assertIn(node.id, BUILTINS, (path, node.lineno))
+
+    def test_statements_and_expressions_outside_of_the_subset(self):
+        barred = (ast.AsyncFunctionDef, ast.AsyncFor, ast.AsyncWith, ast.Await, ast.Div, ast.MatMult)
+        for path in FILES:
+            self.assertEqual(nodes_of(path, barred), [], path)
+            for node in nodes_of(path, ast.Constant):
+                self.assertNotIsInstance(node.value, (float, complex), path)
+
+    def test_no_generator_expressions(self):
+        # Beside a class with __eq__ and operators, which the house will be, most functions take a list instead.
+        for path in FILES:
+            self.assertEqual(nodes_of(path, ast.GeneratorExp), [], path)
+
+
+if __name__ == "__main__":
+    unittest.main()

@@ -1,0 +1,1 @@
+"""Viewstrike: taking answers out of a view with the least loss."""
