@@ -46,3 +46,58 @@ def sample_pairs(many):
         query = some_query(some)
         pairs.append((query, some_rules(some, query)))
     return pairs
+
+
+def some_store(some, query, rows, worths=2):
+    """Return a store of the query with at most this many rows in all, and with values below worths."""
+    tables = [set() for _ in query[1]]
+    for _ in range(30):
+        # Rows are made from whole matches, so that there is something to see.
+        match = [some.randrange(worths) for _ in range(7)]
+        for atom, table in zip(query[1], tables):
+            if some.randrange(5) > 0 and sum([len(rows) for rows in tables]) < rows:
+                table.add(tuple([match[variable] for variable in atom]))
+    return tuple([tuple(sorted(table)[:12]) for table in tables])
+
+
+def keeping(query, rules, store):
+    """Return the store without the rows that break a rule beside the rows before them."""
+    tables = [list(table) for table in store]
+    for t, table in enumerate(tables):
+        kept = []
+        for row in table:
+            if all(agrees(query, rule, row, other) for rule in rules if rule[0] == t for other in kept):
+                kept.append(row)
+        tables[t] = tuple(kept)
+    return tuple(tables)
+
+
+def agrees(query, rule, row, other):
+    """Return whether two rows of the rule's table keep the rule."""
+    t, xs, y = rule
+    atom = query[1][t]
+    alike = all(row[atom.index(x)] == other[atom.index(x)] for x in xs)
+    return not alike or row[atom.index(y)] == other[atom.index(y)]
+
+
+def sample_stores(many, rows=12, seed=3):
+    """Return many triples of a query, rules and a store that keeps them, the same ones in every run."""
+    some = random.Random(seed)
+    triples = []
+    for query, rules in sample_pairs(many):
+        store = some_store(some, query, rows, some.choice((2, 2, 3)))
+        triples.append((query, rules, keeping(query, rules, store)))
+    return triples
+
+
+def knotty_pairs(many, seed=7):
+    """Return many pairs of a query and rules, most of them not headed: short atoms, a head, few rules."""
+    some = random.Random(seed)
+    pairs = []
+    while len(pairs) < many:
+        atoms = tuple([tuple(some.sample(range(7), some.choice((2, 2, 2, 3)))) for _ in range(some.randint(2, 5))])
+        variables = sorted({variable for atom in atoms for variable in atom})
+        head = tuple(sorted(some.sample(variables, some.randint(2, min(4, len(variables))))))
+        query = (head, atoms)
+        pairs.append((query, tuple([some_rule(some, query) for _ in range(some.randint(0, 3))])))
+    return pairs

@@ -20,6 +20,29 @@ LISTED = {
         "does_cover": ["query", "rules", "t", "part"],
         "is_headed": ["query", "rules"],
     },
+    "viewstrike.stores": {
+        "require_store": ["query", "rules", "value"],
+        "does_keep": ["query", "rules", "store"],
+        "matches_of": ["query", "store"],
+        "answer_of": ["query", "store", "match"],
+        "view_of": ["query", "store"],
+    },
+    "viewstrike.strikes": {
+        "require_strike": ["store", "value"],
+        "without_rows": ["store", "strike"],
+        "struck_by": ["query", "store", "strike"],
+        "takes_out": ["query", "store", "strike", "wished"],
+        "loss_of": ["query", "store", "strike", "wished"],
+    },
+    "viewstrike.singles": {
+        "single_strike": ["query", "store", "answer", "t"],
+        "single_losses": ["query", "store", "answer"],
+        "best_table": ["query", "store", "answer"],
+    },
+    "viewstrike.partings": {
+        "parting_for": ["query", "rules"],
+        "parting_for_table": ["query", "rules", "t"],
+    },
 }
 
 

@@ -1,4 +1,4 @@
-"""The plain forms of values that the definitions build on: integers and ascending tuples."""
+"""The plain forms of values that the definitions build on: integers and tuples."""
 
 
 def is_number_of(value, many):
@@ -12,8 +12,25 @@ def is_one_of(value, numbers):
     return type(value) is int and value in numbers
 
 
+def is_tuple_of(value, many):
+    """Return whether value is a tuple of this many elements."""
+    return type(value) is tuple and len(value) == many
+
+
+def are_numbers_of(value, many):
+    """Return whether value is a tuple, perhaps empty, of numbers of many things."""
+    if type(value) is not tuple:
+        return False
+    return all([is_number_of(number, many) for number in value])
+
+
+def is_ascending(some):
+    """Return whether each of some things is greater than the one before it."""
+    return all([low < high for low, high in zip(some, some[1:])])
+
+
 def is_ascending_choice(value, numbers):
     """Return whether value is a strictly ascending tuple, perhaps empty, of some of these integers."""
     if type(value) is not tuple or not all([is_one_of(number, numbers) for number in value]):
         return False
-    return all([low < high for low, high in zip(value, value[1:])])
+    return is_ascending(value)
