@@ -84,3 +84,37 @@ def has_store_form(query, store):
             if any(type(worth) is not int or not 0 <= worth <= 999 for worth in row):
                 return False
     return True
+
+
+def outcomes_of(query, store):
+    """Return the list of pairs of a strike and the set of the answers that it strikes, for all strikes."""
+    groups = groups_by_definition(query, store)
+    bits = {row: 1 << k for k, row in enumerate(all_rows(store))}
+    masks = {
+        answer: [sum([bits[row] for row in enumerate(match)]) for match in matches] for answer, matches in groups.items()
+    }
+    outcomes = []
+    for strike in all_strikes(store):
+        struck = sum([bits[row] for row in strike])
+        outcomes.append((strike, {answer for answer in masks if all(mask & struck for mask in masks[answer])}))
+    return outcomes
+
+
+def losses_by_definition(outcomes, wished, kept):
+    """Return the dict of the losses of the strikes that take out the wished answers and strike no kept one."""
+    return {
+        strike: len(struck - set(wished))
+        for strike, struck in outcomes
+        if set(wished) <= struck and not set(kept) & struck
+    }
+
+
+def least_by_definition(outcomes, wished, kept):
+    return min(losses_by_definition(outcomes, wished, kept).values(), default=None)
+
+
+def surely_gone_by_definition(outcomes, wished):
+    """Return the answers that are not wished and that every best strike strikes."""
+    losses = losses_by_definition(outcomes, wished, ())
+    best = [struck for strike, struck in outcomes if losses.get(strike, None) == min(losses.values())]
+    return tuple(sorted(set.intersection(*best) - set(wished)))

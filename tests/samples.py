@@ -2,6 +2,8 @@
 
 import random
 
+from viewstrike.stores import view_of
+
 PATH = ((0, 1), ((0, 2), (2, 1)))
 KEY = ((0, (0,), 2),)
 LONG = ((0, 6), ((0, 1), (1, 2), (2, 3), (3, 4, 5), (5, 6)))
@@ -101,3 +103,48 @@ def knotty_pairs(many, seed=7):
         query = (head, atoms)
         pairs.append((query, tuple([some_rule(some, query) for _ in range(some.randint(0, 3))])))
     return pairs
+
+
+def some_answers(some, view):
+    """Return wished answers and kept answers of a view."""
+    wished = tuple(sorted(some.sample(view, some.randint(1, min(3, len(view))))))
+    others = [answer for answer in view if answer not in wished]
+    return wished, tuple(sorted(some.sample(others, some.randint(0, min(2, len(others))))))
+
+
+def grid(sizes, head):
+    """Return a query whose atoms share no variable, and a store with so many rows in its tables."""
+    return (head, tuple([(t,) for t in range(len(sizes))])), tuple([tuple([(k,) for k in range(n)]) for n in sizes])
+
+
+# Queries and stores in which much can be struck: answers with several matches that share rows.
+RICH = (
+    (PATH, (((0, 0), (0, 1), (1, 0)), ((0, 0), (1, 0), (1, 1)))),
+    (PATH, (((0, 0), (1, 0), (2, 0)), ((0, 0), (0, 1)))),
+    (PATH, (((0, 0), (0, 1), (1, 0), (1, 1)), ((0, 0), (0, 1), (1, 0), (1, 1)))),
+    (((0,), PATH[1]), (((0, 0), (0, 1), (1, 0), (1, 1), (2, 2)), ((0, 0), (0, 1), (1, 0), (2, 0)))),
+    (((1, 3), ((0, 1), (0,), (0, 3))), (((0, 0), (1, 0), (1, 1)), ((0,), (1,)), ((0, 0), (0, 1), (1, 0), (1, 1)))),
+    (((0, 3), ((0, 1), (1, 2), (2, 3))), (((0, 0), (1, 0), (1, 1)), ((0, 0), (0, 1), (1, 1)), ((0, 0), (1, 0), (1, 1)))),
+    (((), ((0, 1), (1, 2))), (((0, 0), (0, 1), (1, 0)), ((0, 0), (1, 0), (1, 1)))),
+    grid((3, 3, 3), (0, 1, 2)),
+    grid((3, 3, 3), (0, 1)),
+    grid((4, 4), (0, 1)),
+    grid((2, 2, 2, 2), (0, 2)),
+    grid((2, 2, 2, 2, 1), (1, 2, 3)),
+    grid((5, 4), (0,)),
+)
+
+
+def situations(many, rows=8, seed=8):
+    """Return many (query, store, wished, kept), the same ones in every run; stores have at most so many rows in all."""
+    some = random.Random(seed)
+    found = []
+    stores = [(query, store) for query, store in RICH for _ in range(10)]
+    for query, _ in sample_pairs(6 * many) + knotty_pairs(6 * many):
+        store = some_store(some, query, rows, some.choice((2, 2, 3)))
+        # Stores that show one answer have little to lose; a few of them are enough.
+        if len(view_of(query, store)) > some.choice((0, 1, 2, 2, 2)):
+            stores.append((query, store))
+    for query, store in some.sample(stores, len(stores)):
+        found.append((query, store) + some_answers(some, view_of(query, store)))
+    return found[:many]

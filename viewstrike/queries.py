@@ -20,6 +20,15 @@ def require_query(value):
     return value
 
 
+def is_query(value):
+    """Return whether value is a query."""
+    try:
+        require_query(value)
+    except InvalidQuery:
+        return False
+    return True
+
+
 def has_query_form(value):
     """Return whether value is a pair of two tuples, the second one as long as atoms may be."""
     if type(value) is not tuple or len(value) != 2:

@@ -17,6 +17,15 @@ def require_rules(query, value):
     return value
 
 
+def is_rules(query, value):
+    """Return whether value is rules for the query."""
+    try:
+        require_rules(query, value)
+    except InvalidRules:
+        return False
+    return True
+
+
 def is_rule(query, value):
     """Return whether value is a rule (t, xs, y) for the query."""
     if type(value) is not tuple or len(value) != 3:
@@ -97,6 +106,11 @@ def joined_part(parts, t):
 def touches(query, part, variables):
     """Return whether some atom of the part has one of these variables."""
     return any([variable in query[1][t] for t in part for variable in variables])
+
+
+def are_linked(query, rules, s, t):
+    """Return whether atoms s and t have an open variable in common."""
+    return any([variable in query[1][s] and variable in query[1][t] for variable in open_of(query, rules)])
 
 
 def settled_in(query, rules, part):

@@ -114,6 +114,14 @@ def shown_matches(query, store):
     return [(worths_at(store, match, places), match) for match in matches_of(query, store)]
 
 
+def groups_of(query, store):
+    """Return the dict of the lists of matches by their answers."""
+    groups = {}
+    for answer, match in shown_matches(query, store):
+        groups.setdefault(answer, []).append(match)
+    return groups
+
+
 def view_of(query, store):
     """Return the view: the ascending tuple of the answers of all matches."""
     return tuple(sorted({answer for answer, _ in shown_matches(query, store)}))
