@@ -46,7 +46,9 @@ def has_struck_row(match, strike):
 
 
 def struck_by_definition(groups, strike):
-    return tuple(answer for answer, matches in groups.items() if all(has_struck_row(match, strike) for match in matches))
+    return tuple(
+        answer for answer, matches in groups.items() if all(has_struck_row(match, strike) for match in matches)
+    )
 
 
 def loss_by_definition(groups, strike, wished):
@@ -76,13 +78,15 @@ def has_store_form(query, store):
     if type(store) is not tuple or len(store) != len(query[1]):
         return False
     for atom, table in zip(query[1], store):
-        if type(table) is not tuple or len(table) > 12 or list(table) != sorted(set(table)):
+        if type(table) is not tuple or len(table) > 12:
             return False
         for row in table:
             if type(row) is not tuple or len(row) != len(atom):
                 return False
             if any(type(worth) is not int or not 0 <= worth <= 999 for worth in row):
                 return False
+        if list(table) != sorted(set(table)):
+            return False
     return True
 
 
@@ -90,9 +94,9 @@ def outcomes_of(query, store):
     """Return the list of pairs of a strike and the set of the answers that it strikes, for all strikes."""
     groups = groups_by_definition(query, store)
     bits = {row: 1 << k for k, row in enumerate(all_rows(store))}
-    masks = {
-        answer: [sum([bits[row] for row in enumerate(match)]) for match in matches] for answer, matches in groups.items()
-    }
+    masks = {}
+    for answer, matches in groups.items():
+        masks[answer] = [sum([bits[row] for row in enumerate(match)]) for match in matches]
     outcomes = []
     for strike in all_strikes(store):
         struck = sum([bits[row] for row in strike])

@@ -43,6 +43,16 @@ LISTED = {
         "parting_for": ["query", "rules"],
         "parting_for_table": ["query", "rules", "t"],
     },
+    "viewstrike.least": {
+        "least_loss": ["query", "store", "wished", "kept"],
+        "best_strike": ["query", "store", "wished", "kept"],
+    },
+    "viewstrike.keeps": {
+        "staying_strike": ["query", "store", "wished", "kept"],
+        "surely_gone": ["query", "store", "wished"],
+    },
+    "viewstrike.claims": {"require_claim": ["claim"], "decide": ["claim"]},
+    "viewstrike.checker": {"first_fault": ["certificate"]},
 }
 
 

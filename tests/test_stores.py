@@ -256,7 +256,9 @@ class MatchesAndViewTest(unittest.TestCase):
 
     def test_several_matches_of_one_answer(self):
         query = ((0,), PATH[1])
-        self.assertEqual((matches_of(query, STORE)[:3], view_of(query, STORE)), (((0, 0), (1, 1), (1, 2)), ((0,), (1,))))
+        self.assertEqual(
+            (matches_of(query, STORE)[:3], view_of(query, STORE)), (((0, 0), (1, 1), (1, 2)), ((0,), (1,)))
+        )
 
     def test_five_full_tables(self):
         store = (tuple([(k,) for k in range(12)]),) * 5

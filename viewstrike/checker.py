@@ -107,7 +107,7 @@ def table_parting_fault(claim, paper):
 
 
 def parting_fault_for(claim, paper, tables):
-    """Return the fault of a store, an answer and a strike that should lose less than the single ones of these tables."""
+    """Return the fault of a store, an answer and a strike that should lose less than these tables' single ones."""
     store, answer, strike = paper
     if not does_keep(claim[1], claim[2], store):
         return ("store",)

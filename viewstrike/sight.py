@@ -32,7 +32,7 @@ class Sight:
     """A store with wished and kept answers, as it is seen from the places of strike trees.
 
     Each match has a bit. Those of an answer's matches stand side by side, and above them one more, the answer's top. If
-    1 is added to the struck matches at an answer's lowest bit, it carries into the top exactly if all of them are struck.
+    1 is added to the struck matches at an answer's lowest bit, it carries into the top exactly if all are struck.
     """
 
     def __init__(self, query, store, wished, kept):
