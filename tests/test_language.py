@@ -24,6 +24,15 @@ def nodes_of(path, kinds):
     return [node for node in ast.walk(tree_of(path)) if isinstance(node, kinds)]
 
 
+def names_bound_by(node):
+    """Return the names that a statement at module level binds."""
+    if isinstance(node, ast.ImportFrom):
+        return [alias.asname or alias.name for alias in node.names]
+    if isinstance(node, ast.Assign):
+        return [target.id for target in node.targets]
+    return [node.name] if hasattr(node, "name") else []
+
+
 def is_docstring(node):
     return isinstance(node, ast.Expr) and isinstance(node.value, ast.Constant) and isinstance(node.value.value, str)
 
@@ -83,6 +92,32 @@ class LanguageTest(unittest.TestCase):
             self.assertEqual(nodes_of(path, barred), [], path)
             for node in nodes_of(path, ast.Constant):
                 self.assertNotIsInstance(node.value, (float, complex), path)
+
+    def test_no_local_name_is_that_of_a_class_or_an_import(self):
+        for path in FILES:
+            tops = [node for node in tree_of(path).body if isinstance(node, (ast.ImportFrom, ast.ClassDef))]
+            taken = {name for node in tops for name in names_bound_by(node)}
+            stored = [node.id for node in nodes_of(path, ast.Name) if not isinstance(node.ctx, ast.Load)]
+            self.assertEqual(taken & set(stored + [node.arg for node in nodes_of(path, ast.arg)]), set(), path)
+
+    def test_each_name_is_bound_once_at_module_level(self):
+        for path in FILES:
+            bound = [name for node in tree_of(path).body for name in names_bound_by(node)]
+            self.assertEqual(len(bound), len(set(bound)), path)
+
+    def test_no_two_files_import_from_each_other(self):
+        needs = {}
+        for path in FILES:
+            nodes = nodes_of(path, ast.ImportFrom)
+            needs["viewstrike." + path.stem] = {node.module for node in nodes if node.module.startswith("viewstrike")}
+        for _ in FILES:
+            needs = {name: told | {far for near in told for far in needs[near]} for name, told in needs.items()}
+        self.assertEqual([name for name, told in needs.items() if name in told], [])
+
+    def test_sets_are_not_iterated(self):
+        for path in FILES:
+            loops = [node.iter for node in nodes_of(path, (ast.For, ast.comprehension))]
+            self.assertEqual([node for node in loops if isinstance(node, (ast.Set, ast.SetComp))], [], path)
 
     def test_no_generator_expressions(self):
         # Beside a class with __eq__ and operators, which the house will be, most functions take a list instead.
