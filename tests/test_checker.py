@@ -200,6 +200,13 @@ class JoinedTest(CheckerTest):
         self.check("broken", self.claim, (1,), ("variable", 1))
         self.check("broken", ("joined", ((), ((5, 3), (3, 5))), (), 0, 1), (0,), ("variable", 3))
 
+    def test_a_variable_on_one_side_alone(self):
+        query = ((), ((4, 3), (3,), (2,), (2, 1)))
+        self.check("broken", ("joined", query, (), 0, 3), (0, 1), None)
+        self.check("broken", ("joined", query, (), 3, 0), (2, 3), None)
+        self.check("broken", ("joined", query, (), 3, 0), (1, 2, 3), ("variable", 3))
+        self.check("broken", ("joined", query, (), 3, 0), (1, 3), ("variable", 2))
+
     def test_the_set_comes_before_the_variables(self):
         self.check("broken", self.claim, (2,), ("set",))
 
@@ -524,6 +531,17 @@ class TreeTest(CheckerTest):
         self.check(
             "broken", ("least", query, store, ((0, 0),), (), 1), ("more", ((0, 0, 0), ((), (), ()))), ("tree", (0,))
         )
+
+    def test_spared_rows_have_none_in_a_right_tree(self):
+        query, store = grid((2, 2, 2), (0, 1, 2))
+        claim = ("least", query, store, ((0, 0, 0), (0, 1, 1), (1, 0, 1)), (), 1)
+        first, second, third = claim[3]
+        right = (second, (None, (), ())), (third, ((), None, ()))
+        self.check("broken", claim, ("more", (first, ((),) + right)), None)
+        for below in (((), (), ()), (None, None, ()), (None, (), None), ((), None, ())):
+            self.check("broken", claim, ("more", (first, ((), (second, below), right[1]))), ("tree", (1,)))
+        for below in (((), (), ()), (None, None, ()), ((), None, None), (None, (), ())):
+            self.check("broken", claim, ("more", (first, ((), right[0], (third, below)))), ("tree", (2,)))
 
     def test_kept_answers_end_a_place_that_others_do_not(self):
         wished = ((0, 0), (0, 1), (1, 0))

@@ -3,8 +3,10 @@
 import unittest
 
 from tests.definitions import least_by_definition, losses_by_definition, outcomes_of
+from tests.reference import tree_fault
 from tests.samples import PATH, RICH, grid, situations
-from viewstrike.least import best_strike, least_loss
+from viewstrike.least import best_strike, least_loss, strike_tree
+from viewstrike.sight import Sight
 from viewstrike.stores import view_of
 from viewstrike.strikes import loss_of, require_strike, struck_by
 
@@ -103,6 +105,17 @@ class LeastTest(unittest.TestCase):
         query, store = grid((12,), (0,))
         self.assertEqual(least_loss(query, store, ((3,), (5,), (9,)), kept=((0,), (11,))), 0)
         self.assertEqual(best_strike(query, store, ((3,), (5,), (9,))), ((0, 3), (0, 5), (0, 9)))
+
+    def test_there_is_a_strike_tree_exactly_up_to_the_least_loss(self):
+        for query, store, wished, kept in SITUATIONS:
+            sight = Sight(query, store, wished, kept)
+            least = least_loss(query, store, wished, kept=kept)
+            for n in (None, 0, 1, 2, 5, 200):
+                tree = strike_tree(sight, n)
+                if least is None or n is not None and n <= least:
+                    self.assertIsNone(tree_fault(query, store, wished, kept, n, tree))
+                else:
+                    self.assertIsNone(tree)
 
     def test_the_loss_is_the_one_of_the_strike(self):
         for query, store, wished, kept in SITUATIONS:

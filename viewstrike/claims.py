@@ -110,10 +110,10 @@ def decide_least(claim):
 def decide_stay(claim):
     """Return the verdict and paper for a claim "stay"."""
     _, query, store, wished, kept = claim
-    strike = staying_strike(query, store, wished, kept)
-    if strike is not None:
-        return ("shown", strike)
-    return ("broken", staying_tree(query, store, wished, kept))
+    tree = staying_tree(query, store, wished, kept)
+    if tree is not None:
+        return ("broken", tree)
+    return ("shown", staying_strike(query, store, wished, kept))
 
 
 def decide_goes(claim):
@@ -121,10 +121,11 @@ def decide_goes(claim):
     _, query, store, wished, answer = claim
     sight, beside = Sight(query, store, wished, ()), Sight(query, store, wished, (answer,))
     loss, place = best_place(sight)
-    staying = best_place(beside)
-    if staying is None or staying[0] > loss:
+    # A single answer can always stay: spare the rows of one of its matches and strike all others.
+    loss_beside, place_beside = best_place(beside)
+    if loss_beside > loss:
         return ("shown", (sight.strike_at(place), strike_tree(beside, loss + 1)))
-    return ("broken", (beside.strike_at(staying[1]), strike_tree(sight, loss)))
+    return ("broken", (beside.strike_at(place_beside), strike_tree(sight, loss)))
 
 
 DECIDERS = {

@@ -40,7 +40,7 @@ class Sight:
         lane = []
         lows = []
         self.tops = {}
-        for answer in sorted(groups):
+        for answer in groups:
             lows.append(len(lane))
             lane.extend(groups[answer])
             self.tops[answer] = len(lane)
