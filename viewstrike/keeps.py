@@ -46,10 +46,10 @@ def gone_below(sight, n, place, gone):
     """Return those tops of gone answers that all strikes with a loss below n, from this place on, strike, too."""
     if gone == 0 or sight.is_end(place, n):
         return gone
-    match = sight.next_match(place)
-    if match is None:
+    chosen = sight.next_match(place)
+    if chosen is None:
         return gone & sight.struck_tops(place)
-    for below in sight.below(place, match):
+    for below in sight.below(place, chosen):
         if below is not None:
             gone = gone_below(sight, n, below, gone)
     return gone

@@ -28,11 +28,11 @@ def best_below(sight, n, place):
     """
     if sight.is_end(place, n):
         return None
-    match = sight.next_match(place)
-    if match is None:
+    chosen = sight.next_match(place)
+    if chosen is None:
         return (sight.loss_at(place), place)
     best = None
-    for below in sight.below(place, match):
+    for below in sight.below(place, chosen):
         told = None if below is None else best_below(sight, n, below)
         if told is not None:
             best = told
@@ -49,13 +49,13 @@ def tree_from(sight, n, place):
     """Return a tree that is right for n at this place, or None where there is none."""
     if sight.is_end(place, n):
         return ()
-    match = sight.next_match(place)
-    if match is None:
+    chosen = sight.next_match(place)
+    if chosen is None:
         return None
     trees = []
-    for below in sight.below(place, match):
+    for below in sight.below(place, chosen):
         tree = None if below is None else tree_from(sight, n, below)
         if below is not None and tree is None:
             return None
         trees.append(tree)
-    return (match, tuple(trees))
+    return (chosen, tuple(trees))

@@ -39,10 +39,10 @@ def failing_from(sight, n, tree, place):
     """Return the path from this place to the first one that fails in the tree at it, or None."""
     if len(tree) == 0:
         return None if sight.is_end(place, n) else ()
-    match, trees = tree
-    if not sight.is_wished(place, match):
+    chosen, trees = tree
+    if not sight.is_wished(place, chosen):
         return ()
-    places = sight.below(place, match)
+    places = sight.below(place, chosen)
     if [tree is None for tree in trees] != [below is None for below in places]:
         return ()
     for t, below in enumerate(places):
