@@ -5,7 +5,8 @@ import unittest
 from tests.definitions import least_by_definition, losses_by_definition, outcomes_of
 from tests.reference import tree_fault
 from tests.samples import PATH, RICH, grid, situations
-from viewstrike.least import best_strike, least_loss, strike_tree
+from viewstrike.least import best_strike, least_loss
+from viewstrike.search import right_tree
 from viewstrike.sight import Sight
 from viewstrike.stores import view_of
 from viewstrike.strikes import loss_of, require_strike, struck_by
@@ -111,7 +112,7 @@ class LeastTest(unittest.TestCase):
             sight = Sight(query, store, wished, kept)
             least = least_loss(query, store, wished, kept=kept)
             for n in (None, 0, 1, 2, 5, 200):
-                tree = strike_tree(sight, n)
+                tree = right_tree(sight, n)
                 if least is None or n is not None and n <= least:
                     self.assertIsNone(tree_fault(query, store, wished, kept, n, tree))
                 else:

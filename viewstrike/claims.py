@@ -3,9 +3,9 @@
 from viewstrike.claimforms import is_claim
 from viewstrike.errors import InvalidClaim
 from viewstrike.keeps import staying_strike, staying_tree
-from viewstrike.least import best_place, strike_tree
 from viewstrike.partings import costly_store, parting_for, parting_for_table, zeros_of
 from viewstrike.rules import are_linked, chain_for, closure_of, parts_of, settled_in, settled_of
+from viewstrike.search import best_place, right_tree
 from viewstrike.sight import Sight
 
 
@@ -89,7 +89,7 @@ def decide_free(claim):
     if pair is not None:
         return ("shown", pair)
     store, answer = costly_store(query, rules), zeros_of(query)
-    return ("broken", (store, answer, strike_tree(Sight(query, store, (answer,), ()), 1)))
+    return ("broken", (store, answer, right_tree(Sight(query, store, (answer,), ()), 1)))
 
 
 def decide_least(claim):
@@ -98,13 +98,13 @@ def decide_least(claim):
     sight = Sight(query, store, wished, kept)
     best = best_place(sight)
     if best is None:
-        return ("shown", strike_tree(sight, None)) if n is None else ("broken", ("more", strike_tree(sight, n + 1)))
+        return ("shown", right_tree(sight, None)) if n is None else ("broken", ("more", right_tree(sight, n + 1)))
     loss, strike = best[0], sight.strike_at(best[1])
     if n is None or loss < n:
         return ("broken", ("fewer", strike))
     if loss > n:
-        return ("broken", ("more", strike_tree(sight, n + 1)))
-    return ("shown", (strike, strike_tree(sight, n)))
+        return ("broken", ("more", right_tree(sight, n + 1)))
+    return ("shown", (strike, right_tree(sight, n)))
 
 
 def decide_stay(claim):
@@ -124,8 +124,8 @@ def decide_goes(claim):
     # A single answer can always stay: spare the rows of one of its matches and strike all others.
     loss_beside, place_beside = best_place(beside)
     if loss_beside > loss:
-        return ("shown", (sight.strike_at(place), strike_tree(beside, loss + 1)))
-    return ("broken", (beside.strike_at(place_beside), strike_tree(sight, loss)))
+        return ("shown", (sight.strike_at(place), right_tree(beside, loss + 1)))
+    return ("broken", (beside.strike_at(place_beside), right_tree(sight, loss)))
 
 
 DECIDERS = {

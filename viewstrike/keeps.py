@@ -1,8 +1,9 @@
 """What can stay beside wished answers, and what goes surely with them."""
 
-from viewstrike.least import best_place, best_strike
+from viewstrike.least import best_strike
 from viewstrike.rules import contains_all
-from viewstrike.sight import ROOT, Sight
+from viewstrike.search import best_place
+from viewstrike.sight import Sight
 from viewstrike.stores import groups_of
 from viewstrike.trees import rows_of
 
@@ -39,7 +40,7 @@ def surely_gone(query, store, wished):
     """Return the ascending tuple of the answers that go surely with the wished ones."""
     sight = Sight(query, store, wished, ())
     loss, _ = best_place(sight)
-    return sight.answers_with(gone_below(sight, loss + 1, ROOT, sight.other_tops))
+    return sight.answers_with(gone_below(sight, loss + 1, sight.root, sight.other_tops))
 
 
 def gone_below(sight, n, place, gone):

@@ -2,7 +2,6 @@
 
 from viewstrike.forms import is_number_of, is_tuple_of
 from viewstrike.rules import contains_all
-from viewstrike.sight import ROOT
 
 MOST_MATCHES = 12
 MOST_INDICES = 2
@@ -30,23 +29,23 @@ def is_strike_tree(store, value, most=MOST_MATCHES):
     return True
 
 
-def first_failing(sight, n, tree):
-    """Return the path to the first place of the strike tree that fails for n, or None."""
-    return failing_from(sight, n, tree, ROOT)
+def first_failing(places, n, tree):
+    """Return the path to the first place of the strike tree or price tree that fails for n, or None."""
+    return failing_from(places, n, tree, places.root)
 
 
-def failing_from(sight, n, tree, place):
+def failing_from(places, n, tree, place):
     """Return the path from this place to the first one that fails in the tree at it, or None."""
     if len(tree) == 0:
-        return None if sight.is_end(place, n) else ()
+        return None if places.is_end(place, n) else ()
     chosen, trees = tree
-    if not sight.is_wished(place, chosen):
+    if not places.is_wanted(place, chosen):
         return ()
-    places = sight.below(place, chosen)
-    if [tree is None for tree in trees] != [below is None for below in places]:
+    further = places.below(place, chosen)
+    if [tree is None for tree in trees] != [below is None for below in further]:
         return ()
-    for t, below in enumerate(places):
-        path = None if below is None else failing_from(sight, n, trees[t], below)
+    for t, below in enumerate(further):
+        path = None if below is None else failing_from(places, n, trees[t], below)
         if path is not None:
             return (t,) + path
     return None
