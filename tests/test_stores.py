@@ -8,7 +8,7 @@ import unittest
 from tests.definitions import answer_by_definition, keeps_by_definition, matches_by_definition
 from tests.samples import KEY, ODD_VALUES, PATH, sample_pairs, sample_stores, some_store
 from viewstrike.errors import InvalidStore
-from viewstrike.stores import answer_of, does_keep, matches_of, require_store, view_of
+from viewstrike.stores import answer_of, does_keep, is_shown, matches_of, matches_with, require_store, view_of
 
 STORE = (((0, 0), (0, 1), (1, 0)), ((0, 0), (1, 0), (1, 1)))
 ONE = ((0,), ((0, 1),))
@@ -280,6 +280,20 @@ class MatchesAndViewTest(unittest.TestCase):
             self.assertEqual(view_of(query, store), tuple(sorted(set(answers))))
             self.assertEqual(view_of(store=store, query=query), tuple(sorted(set(answers))))
         self.assertTrue(many > 1000)
+
+    def test_answers_that_are_shown_and_their_matches(self):
+        some = random.Random(8)
+        seen = []
+        for query, rules, store in SAMPLES:
+            groups = {}
+            for match in matches_by_definition(query, store):
+                groups.setdefault(answer_by_definition(query, store, match), []).append(match)
+            others = [tuple([some.randrange(3) for _ in query[0]]) for _ in range(4)]
+            for answer in list(groups)[:4] + others:
+                seen.append(answer in groups)
+                self.assertIs(is_shown(query, store, answer), seen[-1])
+                self.assertEqual(matches_with(query, store, answer), groups.get(answer, []))
+        self.assertTrue(min(seen.count(True), seen.count(False)) >= 100)
 
     def test_kinds_of_what_is_returned(self):
         for query, rules, store in SAMPLES[:100]:

@@ -124,4 +124,52 @@ def groups_of(query, store):
 
 def view_of(query, store):
     """Return the view: the ascending tuple of the answers of all matches."""
-    return tuple(sorted({answer for answer, _ in shown_matches(query, store)}))
+    # Matches that look alike from the tables ahead are followed once, so that a full store takes no long time.
+    variables, states = (), [()]
+    for t in range(len(query[1])):
+        lasting = lasting_at(query, t)
+        states = states_behind(query[1][t], store[t], variables, states, lasting)
+        variables = lasting
+    return tuple(sorted(states))
+
+
+def lasting_at(query, t):
+    """Return the ascending tuple of the variables of the atoms up to t that the head or an atom behind it has, too."""
+    wanted = list(query[0]) + [variable for atom in query[1][t + 1:] for variable in atom]
+    return tuple(sorted({variable for atom in query[1][:t + 1] for variable in atom if variable in wanted}))
+
+
+def states_behind(atom, table, variables, states, lasting):
+    """Return the list of the different tuples of worths of the lasting variables behind the table.
+
+    states has those of the variables before it.
+    """
+    shared = [variable for variable in atom if variable in variables]
+    rows_by_key = {}
+    for row in table:
+        rows_by_key.setdefault(tuple([row[atom.index(variable)] for variable in shared]), []).append(row)
+    key_columns = [variables.index(variable) for variable in shared]
+    columns = [(list(variables) + list(atom)).index(variable) for variable in lasting]
+    found = {}
+    for state in states:
+        for row in rows_by_key.get(tuple([state[column] for column in key_columns]), []):
+            both = state + row
+            found[tuple([both[column] for column in columns])] = True
+    return list(found)
+
+
+def is_shown(query, store, answer):
+    """Return whether the answer is one of the view."""
+    worths = dict(zip(query[0], answer))
+    narrowed = [[row for row in table if fits(atom, row, worths)] for atom, table in zip(query[1], store)]
+    return len(view_of(query, narrowed)) > 0
+
+
+def fits(atom, row, worths):
+    """Return whether the row has these worths at those of the atom's variables that they name."""
+    return all([worths.get(variable, worth) == worth for variable, worth in zip(atom, row)])
+
+
+def matches_with(query, store, answer):
+    """Return the list of the answer's matches in ascending order."""
+    return [match for other, match in shown_matches(query, store) if other == answer]
