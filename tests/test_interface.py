@@ -53,6 +53,63 @@ LISTED = {
     },
     "viewstrike.claims": {"require_claim": ["claim"], "decide": ["claim"]},
     "viewstrike.checker": {"first_fault": ["certificate"]},
+    "viewstrike.texts": {
+        "format_query": ["query", "rules"],
+        "format_store": ["store"],
+        "parse_query": ["text"],
+        "parse_store": ["text", "query"],
+    },
+    "viewstrike.prices": {
+        "require_prices": ["store", "value"],
+        "price_of": ["prices", "strike"],
+        "cheapest": ["query", "store", "prices", "answer"],
+        "cheapest_strike": ["query", "store", "prices", "answer"],
+        "is_price_tree": ["query", "store", "prices", "answer", "n", "value"],
+        "price_tree": ["query", "store", "prices", "answer", "n"],
+    },
+    "viewstrike.loads": {
+        "are_loads": ["query", "store", "prices", "answer", "value"],
+        "sum_of": ["loads"],
+        "greatest_loads": ["query", "store", "prices", "answer"],
+    },
+    "viewstrike.lines": {
+        "is_line": ["query", "value"],
+        "line_for": ["query"],
+        "triad_of": ["query"],
+        "gap_for": ["query"],
+    },
+    "viewstrike.deciding": {
+        "is_lot": ["query", "store", "answer", "place", "value"],
+        "least_lot": ["query", "store", "answer", "place"],
+        "sizes_of": ["query", "store", "answer"],
+    },
+    "viewstrike.priceclaims": {"require_price_claim": ["claim"], "decide_price": ["claim"]},
+    "viewstrike.pricechecker": {"first_price_fault": ["certificate"]},
+}
+HOUSE = {
+    "__init__": ["query", "rules"],
+    "put": ["t", "row"],
+    "drop": ["t", "row"],
+    "strike": ["strike"],
+    "keep": ["answer"],
+    "release": ["answer"],
+    "bar": ["answer"],
+    "lift": ["answer"],
+    "store": [],
+    "view": [],
+    "kept": [],
+    "barred": [],
+    "deeds": [],
+    "losses": ["answer"],
+    "least": ["wished"],
+    "paper_of": ["wished"],
+    "plan": ["wished"],
+    "sizes": ["answer"],
+    "undo": [],
+    "twin": [],
+    "__len__": [],
+    "__eq__": ["other"],
+    "__iadd__": ["other"],
 }
 
 
@@ -65,6 +122,14 @@ class InterfaceTest(unittest.TestCase):
                 self.assertTrue(inspect.isfunction(function), name)
                 self.assertEqual(function.__module__, path, name)
                 self.assertEqual(list(inspect.signature(function).parameters), parameters, name)
+
+    def test_the_methods_of_houses_are_defined_in_the_class_itself(self):
+        house = importlib.import_module("viewstrike.house").House
+        self.assertEqual(house.__module__, "viewstrike.house")
+        for name, parameters in HOUSE.items():
+            function = vars(house)[name]
+            self.assertTrue(inspect.isfunction(function), name)
+            self.assertEqual(list(inspect.signature(function).parameters), ["self"] + parameters, name)
 
     def test_the_examples_of_the_readme(self):
         told = doctest.testfile(str(README), module_relative=False, encoding="utf-8")

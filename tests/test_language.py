@@ -120,9 +120,52 @@ class LanguageTest(unittest.TestCase):
             self.assertEqual([node for node in loops if isinstance(node, (ast.Set, ast.SetComp))], [], path)
 
     def test_no_generator_expressions(self):
-        # Beside a class with __eq__ and operators, which the house will be, most functions take a list instead.
+        # Beside a class with __eq__ and operators, which the house is, most functions take a list instead.
         for path in FILES:
             self.assertEqual(nodes_of(path, ast.GeneratorExp), [], path)
+
+    def test_no_signs_and_methods_that_classes_with_operators_forbid(self):
+        for path in FILES:
+            self.assertEqual(nodes_of(path, ast.AugAssign), [], path)
+            self.assertEqual([node for node in nodes_of(path, ast.Attribute) if node.attr == "sort"], [], path)
+
+    def test_names_that_are_not_used(self):
+        barred = "register mro elements open input law version_info with_traceback add_note format format_map".split()
+        others = "compile dir eval exec exit globals help id locals os quit sys vars super".split()
+        for path in FILES:
+            names = [node.id for node in nodes_of(path, ast.Name)] + [node.arg for node in nodes_of(path, ast.arg)]
+            attributes = [node.attr for node in nodes_of(path, ast.Attribute)]
+            defined = [node.name for node in nodes_of(path, (ast.FunctionDef, ast.ClassDef))]
+            self.assertEqual(set(barred) & set(names + attributes + defined), set(), path)
+            self.assertEqual(set(others) & set(names + defined), set(), path)
+
+    def test_no_name_is_a_method_and_an_attribute(self):
+        methods, attributes = set(), set()
+        for path in FILES:
+            for node in nodes_of(path, ast.ClassDef):
+                methods |= {told.name for told in node.body if isinstance(told, ast.FunctionDef)}
+            stored = [node for node in nodes_of(path, ast.Attribute) if isinstance(node.ctx, ast.Store)]
+            attributes |= {node.attr for node in stored}
+        self.assertEqual(methods & attributes, set())
+        values = [set(dir(value)) for value in ("", 0, [], {}, (), b"")] + [{"add", "discard"}]
+        for name in (methods | attributes) - {"__init__", "__len__", "__eq__", "__iadd__"}:
+            # An attribute may be called index.
+            self.assertEqual(name != "index" and any(name in told for told in values), False, name)
+
+    def test_names_that_begin_with_two_underscores(self):
+        for path in FILES:
+            for node in nodes_of(path, ast.Attribute):
+                if node.attr.startswith("__"):
+                    self.assertIn(node.attr, ("__init__", "__name__"), (path, node.lineno))
+
+    def test_tables_of_functions_have_functions_of_their_own_file(self):
+        for path in FILES:
+            tree = tree_of(path)
+            defined = [node.name for node in tree.body if isinstance(node, ast.FunctionDef)]
+            for node in tree.body:
+                if isinstance(node, ast.Assign):
+                    names = [part.id for part in ast.walk(node.value) if isinstance(part, ast.Name)]
+                    self.assertEqual(set(names) - set(defined), set(), path)
 
 
 if __name__ == "__main__":
