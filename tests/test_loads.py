@@ -178,6 +178,9 @@ class GreatestLoadsTest(unittest.TestCase):
         store = (((0,), (1,)), ((0, 0), (0, 1), (1, 0)), ((0,), (1,)))
         loads = self.check_sample(query, store, ((5, 5), (9, 9, 9), (5, 5)), ())
         self.assertEqual(sum_of(loads), 10)
+        for left, right, most in (((5, 2), (5, 5), 7), ((5, 5), (5, 2), 7), ((3, 4), (4, 9), 7), ((9, 1), (3, 9), 10)):
+            loads = self.check_sample(query, store, (left, (9, 9, 9), right), ())
+            self.assertEqual(sum_of(loads), most)
 
     def test_stores_with_up_to_twelve_rows(self):
         for sample in FULL:
