@@ -96,7 +96,7 @@ def has_line(query):
 
 
 def paths_avoid(query, s, t, third):
-    """Return whether some path joins s and t that has nothing of the third atom; all paths without repeats are tried."""
+    """Return whether some path joins s and t that has nothing of the third atom; all without repeats are tried."""
     links = set(unheaded(query)) - set(query[1][third])
     others = [k for k in range(len(query[1])) if k not in (s, t)]
     for many in range(len(others) + 1):

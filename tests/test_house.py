@@ -97,8 +97,8 @@ class NewHouseTest(HouseCase):
         self.assertEqual(len(House(PATH, KEY * 6)), 0)
 
     def test_each_method_stands_in_the_class_itself(self):
-        names = "put drop strike keep release bar lift store view kept barred deeds losses least paper_of plan undo twin"
-        for name in names.split() + ["sizes", "__init__", "__len__", "__eq__", "__iadd__"]:
+        names = "put drop strike keep release bar lift store view kept barred deeds losses least paper_of plan"
+        for name in names.split() + ["sizes", "undo", "twin", "__init__", "__len__", "__eq__", "__iadd__"]:
             self.assertIn(name, vars(House))
 
 
@@ -253,7 +253,8 @@ class AnswersTest(HouseCase):
         house += (("keep", (0, 0)), ("keep", (1, 1)), ("bar", (7, 7)))
         for method in ("keep", "release", "bar", "lift"):
             for value in SHAPES + (
-                (0,), (0, 0, 0), [0, 0], (False, 0), (0, False), (True, True), (0, -1), (0, 1000), ("0", "0"), (0, None),
+                (0,), (0, 0, 0), [0, 0], (False, 0), (0, False), (True, True), (0, -1), (0, 1000), ("0", "0"),
+                (0, None),
                 {0: 0}, "00", (7, 10**40), ((0, 0),), House(PATH, ()),
             ):
                 self.check_error(house, InvalidAnswer, (), method, value)
@@ -366,7 +367,8 @@ class AskingTest(HouseCase):
         )
         for method in ("least", "paper_of", "plan"):
             for value in (
-                None, True, 0, "", "abc", [], [(0, 0)], {}, {(0, 0): 1}, (), (0, 0, 0, 0), ((0, 0), (0, 2), (1, 0), (1, 1)),
+                None, True, 0, "", "abc", [], [(0, 0)], {}, {(0, 0): 1}, (), (0, 0, 0, 0),
+                ((0, 0), (0, 2), (1, 0), (1, 1)),
                 (0,) * 100000, House(PATH, ()), b"a",
             ):
                 self.check_error(house, NoAnswer, (None,), method, value)
@@ -413,7 +415,8 @@ class AskingTest(HouseCase):
         house = filled((2, 2), (0, 1))
         house += (("keep", (0, 0)), ("bar", (7, 7)), ("strike", ()))
         for value in (
-            house.store(), house.store()[0], house.view(), house.kept(), house.barred(), house.deeds(), house.deeds()[0],
+            house.store(), house.store()[0], house.view(), house.kept(), house.barred(), house.deeds(),
+            house.deeds()[0],
             house.losses((0, 0)), house.sizes((0, 0)), house.plan(((1, 1),)), house.paper_of(((1, 1),)),
         ):
             self.assertIs(type(value), tuple)
@@ -425,7 +428,8 @@ class UndoTest(HouseCase):
         house = House(PATH, KEY)
         seen = [told_of(house)]
         for deed in (
-            ("put", 0, (0, 5)), ("put", 1, (5, 7)), ("put", 1, (5, 8)), ("keep", (0, 7)), ("bar", (1, 7)), ("keep", (0, 8)),
+            ("put", 0, (0, 5)), ("put", 1, (5, 7)), ("put", 1, (5, 8)), ("keep", (0, 7)), ("bar", (1, 7)),
+            ("keep", (0, 8)),
             ("release", (0, 7)), ("bar", (0, 1)), ("lift", (1, 7)), ("drop", 1, (5, 7)), ("strike", ()),
             ("put", 0, (1, 5)), ("strike", ((0, 1),)), ("bar", (1, 8)),
         ):
@@ -547,14 +551,19 @@ class SeveralDeedsTest(HouseCase):
 
     def test_wrong_forms(self):
         house = filled((2, 2), (0, 1))
-        for value in SHAPES + ("put", [("strike", ())], {("strike", ()): 1}, house, house.store(), (0,), ("strike", ())):
+        for value in SHAPES + (
+            "put", [("strike", ())], {("strike", ()): 1}, house, house.store(), (0,), ("strike", ()),
+        ):
             if value != ():
                 self.check_refused(house, value, -1, None)
         for deed in (
-            None, True, 0, "put", [], {}, (), ("put",), ("put", 0), ("put", 0, (5,), 0), ("drop", 0), ("strike",), ("keep",),
-            ("strike", (), ()), ("keep", (0, 0), 0), ("release",), ("bar", 1, 2), ("lift",), ["strike", ()], ("Put", 0, (5,)),
+            None, True, 0, "put", [], {}, (), ("put",), ("put", 0), ("put", 0, (5,), 0), ("drop", 0), ("strike",),
+            ("keep",),
+            ("strike", (), ()), ("keep", (0, 0), 0), ("release",), ("bar", 1, 2), ("lift",), ["strike", ()],
+            ("Put", 0, (5,)),
             ("", ()), (None, ()), (0, ()), (True, ()), (("put",), 0, (5,)), (["put"], 0, (5,)), ({}, 0), ("undo",),
-            ("twin", ()), ("put ", 0, (5,)), ("losses", (0, 0)), (b"put", 0, (5,)), ("store",), ("__init__", ()), ("_do", ()),
+            ("twin", ()), ("put ", 0, (5,)), ("losses", (0, 0)), (b"put", 0, (5,)), ("store",), ("__init__", ()),
+            ("_do", ()),
         ):
             self.check_refused(house, (deed,), -1, None)
             self.check_refused(house, (("strike", ()), deed), -1, None)
@@ -566,9 +575,11 @@ class SeveralDeedsTest(HouseCase):
         house = House(PATH, KEY)
         house += (("put", 0, (0, 5)), ("put", 1, (5, 7)), ("bar", (1, 1)), ("keep", (0, 7)))
         for deed, reason in (
-            (("put", 2, (0, 0)), "InvalidRow"), (("put", None, None), "InvalidRow"), (("put", 0, (0, 5)), "AlreadyThere"),
+            (("put", 2, (0, 0)), "InvalidRow"), (("put", None, None), "InvalidRow"),
+            (("put", 0, (0, 5)), "AlreadyThere"),
             (("put", 0, (0, 6)), "RuleBroken"), (("drop", 0, (0, 6)), "NotThere"), (("drop", 0, (0, 5)), "AnswerLost"),
-            (("drop", True, (5, 7)), "InvalidRow"), (("strike", ((0, 0),)), "AnswerLost"), (("strike", []), "InvalidStrike"),
+            (("drop", True, (5, 7)), "InvalidRow"), (("strike", ((0, 0),)), "AnswerLost"),
+            (("strike", []), "InvalidStrike"),
             (("keep", (0, 7)), "AlreadyThere"), (("keep", (0, 8)), "NotThere"), (("keep", [0, 7]), "InvalidAnswer"),
             (("release", (0, 8)), "NotThere"), (("release", None), "InvalidAnswer"), (("bar", (0, 7)), "AlreadyThere"),
             (("bar", (1, 1)), "AlreadyThere"), (("bar", 1), "InvalidAnswer"), (("lift", (0, 7)), "NotThere"),

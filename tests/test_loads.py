@@ -54,7 +54,9 @@ class AreLoadsTest(unittest.TestCase):
         deep = ()
         for _ in range(97):
             deep = (deep,)
-        for value in ODD_VALUES + (7, "ab", (0, 0), ((0, 0), 1), [((0, 0), 1)], {(0, 0): 1}, deep, House(PAIR, ()), b"a"):
+        for value in ODD_VALUES + (
+            7, "ab", (0, 0), ((0, 0), 1), [((0, 0), 1)], {(0, 0): 1}, deep, House(PAIR, ()), b"a",
+        ):
             if value != ():
                 self.check(self.pair, value, False)
         self.check(self.pair, (0,) * 1000000, False)
@@ -62,9 +64,11 @@ class AreLoadsTest(unittest.TestCase):
 
     def test_pairs_of_a_wrong_kind(self):
         for pair in (
-            None, True, 0, "", (), [], {}, ((0, 0),), ((0, 0), 1, 1), [(0, 0), 1], ([0, 0], 1), ((0, 0), [1]), ((0, 0), None),
+            None, True, 0, "", (), [], {}, ((0, 0),), ((0, 0), 1, 1), [(0, 0), 1], ([0, 0], 1), ((0, 0), [1]),
+            ((0, 0), None),
             ((0, 0), "1"), ((0, 0), (1,)), ((0,), 1), ((0, 0, 0), 1), ((0, False), 1), ((False, 0), 1), ((0, None), 1),
-            ("00", 1), ((0, 2), 1), ((2, 0), 1), ((0, -1), 1), ((-1, 0), 1), (((0, 0), 1),), (None, 1), (0, 0), (1, (0, 0)),
+            ("00", 1), ((0, 2), 1), ((2, 0), 1), ((0, -1), 1), ((-1, 0), 1), (((0, 0), 1),), (None, 1), (0, 0),
+            (1, (0, 0)),
         ):
             self.check(self.pair, (pair,), False)
             self.check(self.pair, (pair, ((1, 1), 1)), False)

@@ -58,7 +58,8 @@ class RequirePriceClaimTest(unittest.TestCase):
         for _ in range(97):
             deep = (deep,)
         for value in ODD_VALUES + (
-            7, "lined", list(CHEAPEST), {0: "lined", 1: PAIR}, deep, (0,) * 1000000, House(PAIR, ()), ("lined",), b"lined",
+            7, "lined", list(CHEAPEST), {0: "lined", 1: PAIR}, deep, (0,) * 1000000, House(PAIR, ()), ("lined",),
+            b"lined",
             ("cheapest",), ("decides",), ("lined", PAIR, ()), ("lined", PAIR, PAIR), "cheapest",
         ):
             self.check_wrong(value)
@@ -114,7 +115,8 @@ class RequirePriceClaimTest(unittest.TestCase):
 
     def test_prices(self):
         self.check_wrong_part(CHEAPEST, 3, ODD_VALUES + (
-            list(PAIR_PRICES), PAIR_PRICES[:1], PAIR_PRICES + ((),), ([3, 1], (2, 5)), ((3,), (2, 5)), ((3, 1, 0), (2, 5)),
+            list(PAIR_PRICES), PAIR_PRICES[:1], PAIR_PRICES + ((),), ([3, 1], (2, 5)), ((3,), (2, 5)),
+            ((3, 1, 0), (2, 5)),
             ((3, 1), (2, 100)), ((3, -1), (2, 5)), ((3, True), (2, 5)), ((3, 1), (2, None)), ((3, 1), ("2", 5)), (3, 1),
         ))
         for prices in (((0, 0), (0, 0)), ((99, 99), (99, 99))):

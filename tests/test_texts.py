@@ -142,7 +142,8 @@ class ParseQueryTest(TextCase):
             self.check_query_line(QUERY_TEXT + text, 4)
         for cut in range(len(QUERY_TEXT)):
             line = self.check_query(QUERY_TEXT[:cut])
-            self.assertEqual(line, None if cut == len("atom 0 2\natom 2 1\nhead 0 1\n") else QUERY_TEXT[:cut].count("\n"))
+            is_whole = cut == len("atom 0 2\natom 2 1\nhead 0 1\n")
+            self.assertEqual(line, None if is_whole else QUERY_TEXT[:cut].count("\n"))
 
     def test_atoms(self):
         for line in (
@@ -161,7 +162,8 @@ class ParseQueryTest(TextCase):
 
     def test_heads(self):
         for line in (
-            "head 1 0", "head 0 0", "head 3", "head 0 3", "head -0", "head 00", "head  0", "head 0 ", "head ", "head\t0",
+            "head 1 0", "head 0 0", "head 3", "head 0 3", "head -0", "head 00", "head  0", "head 0 ", "head ",
+            "head\t0",
             "Head", "heads", "head a", "", " head", "head 7", "head 0 1 2 2", "head 10", "rule 0 0 by 2", "table",
         ):
             self.check_query_line("atom 0 2\natom 2 1\n" + line + "\n", 2)
@@ -181,9 +183,11 @@ class ParseQueryTest(TextCase):
             self.check_query_line(before + (line + "\n") * 7, 9)
         for line in (
             "rule 0 2 by 2", "rule 2 2 by 0", "rule 0 1 by 0", "rule 0 2 by 1", "rule 0 2 by 4 0", "rule 0 2 by 0 0",
-            "rule 0 2", "rule 0 2 0", "rule 0 by 0", "rule by", "rule", "rule 0 2 by ", "rule 0 2 by  0", "rule 0 2  by",
+            "rule 0 2", "rule 0 2 0", "rule 0 by 0", "rule by", "rule", "rule 0 2 by ", "rule 0 2 by  0",
+            "rule 0 2  by",
             "rule  0 2 by", "rule 0 2 By 0", "rule 0 2 by 0 ", "rule 00 2 by", "rule 0 02 by", "rule 0 2 by 00", "",
-            "rule -0 2 by", "rule 0 2 by 0 by", "rule 0 2 by\t0", "rule a 2 by", "rule 0 b by", "rule 0 2 by c", "rules",
+            "rule -0 2 by", "rule 0 2 by 0 by", "rule 0 2 by\t0", "rule a 2 by", "rule 0 b by", "rule 0 2 by c",
+            "rules",
             "head 0 1", "atom 0 2", "row 0", "RULE 0 2 by", " rule 0 2 by", "rule 5 2 by", "rule 0 7 by", "rule  ",
             "rule 0 2 by 0 2 4", "rule   by", "rule 0 " + "2" * 9000 + " by",
         ):
@@ -228,7 +232,8 @@ def changed(some, text):
         elif way == 4:
             text = text[:place] + some.choice(SIGNS) + text[place + 1 :]
         elif way == 5:
-            text = text[:place] + some.choice(("0", "1", " ", "\n", "\t", "-", "+", " 0", "row 1\n", "atom 0\n")) + text[place:]
+            further = some.choice(("0", "1", " ", "\n", "\t", "-", "+", " 0", "row 1\n", "atom 0\n"))
+            text = text[:place] + further + text[place:]
         elif way == 6:
             text = text[:place] + text[place + 1 :]
         elif way == 7:
@@ -257,7 +262,8 @@ class ParseStoreTest(TextCase):
         for line in (
             "row 1", "row 1 2 3", "row", "row ", "row  1 2", "row 1  2", "row 1 2 ", " row 1 2", "row 01 2", "row 1 02",
             "row 00 2", "row +1 2", "row -1 2", "row 1 -0", "row 1 1000", "row 1000 1", "row 1,2", "row 1 a", "Row 1 2",
-            "rows 1 2", "row\t1 2", "row 1\t2", "row 1 2\t", "", "table ", "tables", "Table", " table", "table 0", "head",
+            "rows 1 2", "row\t1 2", "row 1\t2", "row 1 2\t", "", "table ", "tables", "Table", " table", "table 0",
+            "head",
             "row 1_0 2", "row 1 2.0", "row 1 0x2", "row " + "1" * 5000 + " 2", "row 1 2 row", "tablerow 1 2",
         ):
             self.check_store_line("table\n" + line + "\ntable\n", PATH, 1)

@@ -6,7 +6,8 @@ from viewstrike.prices import price_tree
 from viewstrike.queries import variables_of
 
 # A ring of triangles, each told by its three corners. In turn, one corner is another one in the next triangle, so the
-# two share the side between the other two corners. An odd number of them needs one side more than half of it.
+# two share the side between the other two corners. Half of each shared side meets every triangle twice, four and a half
+# sides in all; but as the triangles are nine, an odd number, five whole sides are needed to meet them all.
 RING = ((0, 0, 0), (1, 0, 0), (1, 1, 0), (1, 1, 1), (2, 1, 1), (2, 2, 1), (2, 2, 2), (0, 2, 2), (0, 0, 2))
 CORNERS = 3
 DEAR = 99

@@ -4,7 +4,8 @@ from viewstrike.errors import InvalidPrices
 from viewstrike.forms import are_numbers_of, is_tuple_of
 from viewstrike.search import best_place, right_tree
 from viewstrike.stores import matches_with
-from viewstrike.tills import Till, is_price_tree_for
+from viewstrike.tills import Till
+from viewstrike.trees import first_failing, is_strike_tree
 
 PRICES = 100
 
@@ -51,7 +52,9 @@ def cheapest_strike(query, store, prices, answer):
 
 def is_price_tree(query, store, prices, answer, n, value):
     """Return whether value has the form of a price tree and is right for the answer and n."""
-    return is_price_tree_for(till_for(query, store, prices, answer), store, n, value)
+    if not is_strike_tree(store, value):
+        return False
+    return first_failing(till_for(query, store, prices, answer), n, value) is None
 
 
 def price_tree(query, store, prices, answer, n):

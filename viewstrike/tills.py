@@ -1,7 +1,7 @@
 """What strikes cost, as it is seen from the places of price trees."""
 
 from viewstrike.places import Places
-from viewstrike.trees import first_failing, is_strike_tree, rows_of
+from viewstrike.trees import rows_of
 
 
 class Till(Places):
@@ -34,8 +34,3 @@ def lot_tills(store, matches, place):
     ones = [[1 for _ in table] for table in store]
     others = [match for match in matches if match[t] != number]
     return [Till(ones, others, rows_of(match)) for match in matches if match[t] == number]
-
-
-def is_price_tree_for(till, store, n, value):
-    """Return whether value has the form of a price tree and is right for n."""
-    return is_strike_tree(store, value) and first_failing(till, n, value) is None
