@@ -156,7 +156,7 @@ class LanguageTest(unittest.TestCase):
         for path in FILES:
             for node in nodes_of(path, ast.Attribute):
                 if node.attr.startswith("__"):
-                    self.assertIn(node.attr, ("__init__", "__name__"), (path, node.lineno))
+                    self.assertEqual(node.attr, "__init__", (path, node.lineno))
 
     def test_tables_of_functions_have_functions_of_their_own_file(self):
         for path in FILES:

@@ -231,11 +231,26 @@ class House:
         """Do the deed and return None, or return the name of the error that it raises."""
         try:
             self._do(deed)
-        except (
-            AlreadyThere, AnswerBarred, AnswerLost, InvalidAnswer, InvalidRow, InvalidStrike, NotThere, RuleBroken,
-            TableFull, TooMany,
-        ) as error:
-            return type(error).__name__
+        except InvalidRow:
+            return "InvalidRow"
+        except InvalidStrike:
+            return "InvalidStrike"
+        except InvalidAnswer:
+            return "InvalidAnswer"
+        except AlreadyThere:
+            return "AlreadyThere"
+        except NotThere:
+            return "NotThere"
+        except TableFull:
+            return "TableFull"
+        except RuleBroken:
+            return "RuleBroken"
+        except AnswerBarred:
+            return "AnswerBarred"
+        except AnswerLost:
+            return "AnswerLost"
+        except TooMany:
+            return "TooMany"
         return None
 
     def _do(self, deed):
